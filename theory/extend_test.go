@@ -207,7 +207,7 @@ func TestOverload(t *testing.T) {
 		{x, "size", nat(), constant("top", tvar("a")), theory.ErrDefine}, {x, "size", nat(), zero(), api.ErrType}, {x, "size", la, k(nat()), api.ErrType}, {x, "size", la, k(con("list", tfree("b"))), api.ErrType},
 		{x, "size", la, k(con("list", tfree("a", "c"))), api.ErrType}, {x, "size", con("list", tvar("a")), k(la), api.ErrType}, {x, "size", la, k(la), api.OK}, {x, "size", nat(), k(nat()), api.OK}, {x, "size", fun(tfree("a"), tfree("b")), k(fun(tfree("a"), tfree("b"))), api.OK},
 		{r, "size", at, k(at), api.ErrDuplicate}, {general, "size", la, k(la), theory.ErrDefine}, {x, "size", con("list", nat()), k(con("list", nat())), theory.ErrDefine}, {x, "size", p2(), k(p2()), theory.ErrDefine},
-		{x, "size", tfree("a"), k(tfree("a")), theory.ErrDefine}, {x, "size", tfree("b"), k(tfree("b")), theory.ErrDefine}, {x, "size", la, abs(la, app(size(la), bound(0))), theory.ErrDefine}, {x, "eq", nat(), constant("top", fun(nat(), nat(), prop())), theory.ErrDefine},
+		{x, "size", tfree("b"), k(tfree("b")), theory.ErrDefine}, {x, "size", la, abs(la, app(size(la), bound(0))), theory.ErrDefine}, {x, "eq", nat(), constant("top", fun(nat(), nat(), prop())), theory.ErrDefine},
 		{x, "least", nat(), zero(), api.OK}, {x, "least", prop(), constant("good", prop()), api.ErrType}, {x, "least", la, constant("top", la), api.ErrType}, {x, "least", con("list", tfree("a", "c")), constant("top", con("list", tfree("a", "c"))), api.OK},
 		{long, strings.Repeat("k", 35), nat(), zero(), api.ErrForm}, {long, strings.Repeat("k", 35), con("list", tfree("b")), constant("top", con("list", tfree("b"))), api.ErrForm},
 	} {
@@ -217,6 +217,72 @@ func TestOverload(t *testing.T) {
 		}
 	}
 	if _, e := theory.Overload(x, "", "size", nat(), k(nat())); e != api.ErrForm {
+		t.Error(e)
+	}
+}
+
+// That a definition is not permitted at a type is an error of the result, and stands behind the others that Extend finds.
+func TestOverloadWhereNoneIsPermitted(t *testing.T) {
+	x, b := numbers(), tfree("b")
+	k := func(t api.Type) api.Term { return abs(t, zero()) }
+	named := numbers()
+	addAxioms(axiom("size_b_def", api.Plain, constant("good", prop())), axiom("size_list_def", api.Plain, constant("good", prop())))(&named)
+	full := numbers()
+	for _, name := range numbered("x", 299) {
+		addAxioms(axiom(name, api.Plain, constant("good", prop())))(&full)
+	}
+	long := strings.Repeat("k", 34)
+	longer := numbers()
+	addConst(long, tvar("a"))(&longer)
+	addConst("l"+long, tvar("a"))(&longer)
+	for i, c := range []struct {
+		t       api.Theory
+		name, c string
+		at      api.Type
+		rhs     api.Term
+		e       api.Errno
+	}{
+		{x, "1", "size", b, k(b), api.ErrForm}, {x, "", "size", b, k(b), api.ErrForm}, {x, "T", "size", b, k(b), theory.ErrDefine},
+		{x, "1", "size", con("list", nat()), k(con("list", nat())), api.ErrForm}, {x, "T", "size", con("list", nat()), k(con("list", nat())), theory.ErrDefine},
+		{x, "1", "size", p2(), k(p2()), api.ErrForm}, {x, "T", "size", p2(), k(p2()), theory.ErrDefine},
+		{x, "1", "eq", nat(), constant("top", fun(nat(), nat(), prop())), api.ErrForm},
+		// what stands ahead of the errors of Extend
+		{x, "1", "size", tfree("1"), k(b), api.ErrForm}, {x, "1", "size", tfree("b", "x"), k(b), api.ErrMissing}, {x, "1", "size", b, free("x", nat()), theory.ErrDefine}, {x, "1", "size", b, k(nat()), api.ErrType},
+		// api.ErrDuplicate stands ahead of the error of the result, and the number and the names of axioms in it ahead of what is permitted
+		{named, "1", "size", b, k(b), api.ErrDuplicate}, {named, "T", "size", b, k(b), api.ErrDuplicate}, {named, "T", "size", con("list", nat()), k(con("list", nat())), api.ErrDuplicate},
+		{full, "1", "size", b, k(b), api.ErrForm}, {full, "T", "size", b, k(b), api.ErrCount},
+		{longer, "T", long, b, constant("top", b), theory.ErrDefine}, {longer, "T", "l" + long, b, constant("top", b), api.ErrForm}, {longer, "T", long, tfree("bb"), constant("top", tfree("bb")), api.ErrForm},
+		// a variable that has not the sort of the declared type's one
+		{x, "1", "low", b, k(b), api.ErrForm}, {x, "T", "low", b, k(b), api.ErrType}, {x, "T", "low", tfree("b", "d"), k(tfree("b", "d")), theory.ErrDefine},
+	} {
+		r, e := theory.Overload(c.t, c.name, c.c, c.at, c.rhs)
+		if e != c.e || len(keys(r)) != 0 || r.Name != "" {
+			t.Error(i, e, c.e)
+		}
+	}
+}
+
+// A TFree with the name and the sort of the declared type's variable gives the declared type, at which definitions are permitted.
+func TestOverloadAtTheDeclaredType(t *testing.T) {
+	x, a := numbers(), tfree("a")
+	r, e := theory.Overload(x, "T", "size", a, abs(a, zero()))
+	got, ok := theory.Axiom(r, "size_a_def")
+	if e != api.OK || theory.Check(r) != api.OK || len(keys(r)) != len(keys(x))+1 || !ok || got.Kind != api.Defining || !term.Equal(got.Prop, eq(size(tvar("a")), abs(tvar("a"), zero()))) {
+		t.Error(e, got)
+	}
+	if _, e := theory.Overload(x, "1", "size", a, abs(a, zero())); e != api.ErrForm {
+		t.Error(e)
+	}
+	if _, e := theory.Overload(r, "T", "size", nat(), abs(nat(), zero())); e != theory.ErrDefine {
+		t.Error("two definitions with a common instance", e)
+	}
+	if _, e := theory.Overload(x, "T", "size", a, abs(a, app(size(a), bound(0)))); e != theory.ErrDefine {
+		t.Error("a circle", e)
+	}
+	if _, e := theory.Overload(x, "T", "low", a, abs(a, zero())); e != api.ErrType {
+		t.Error("without the sort", e)
+	}
+	if _, e := theory.Overload(x, "T", "low", tfree("a", "c"), abs(tfree("a", "c"), zero())); e != api.OK {
 		t.Error(e)
 	}
 }

@@ -214,6 +214,44 @@ func oddTheory(r *rand.Rand) api.Theory {
 	return x
 }
 
+// Behind its own errors Overload has those of Extend by the definition, whatever the type is at which it defines, and the same result.
+func TestLawsOfOverload(t *testing.T) {
+	r := rand.New(rand.NewSource(5))
+	kinds := map[api.Errno]int{}
+	for range 2000 {
+		x := grown(t, r, start(), r.Intn(4))
+		pick := func(l ...string) string { return l[r.Intn(len(l))] }
+		at := []api.Type{tfree("a"), tfree("b"), nat(), con("list", tfree("b")), con("list", nat()), con("pair", tfree("a"), tfree("b")), p2(), tfree("a", "c")}[r.Intn(8)]
+		c, name := pick("size", "weight"), pick("T", "T", "T", "1", "")
+		rhs := abs(at, randomRight(r, x, nat(), 2))
+		p := api.Term{Op: api.Abs, Name: "x", Type: schematicType(at), Kids: rhs.Kids}
+		more := api.Theory{Axioms: []api.Axiom{define(c+"_"+at.Name+"_def", constant(c, fun(p.Type, nat())), p)}}
+		got, e := theory.Overload(x, name, c, at, rhs)
+		want, f := theory.Extend(x, name, more)
+		if e != f || e == api.OK && !same(got, want) || e != api.OK && len(keys(got)) != 0 {
+			t.Fatal(e, f, name, at, keys(x))
+		}
+		kinds[e]++
+	}
+	for _, e := range []api.Errno{api.OK, api.ErrForm, theory.ErrDefine, api.ErrDuplicate} {
+		if kinds[e] < 20 {
+			t.Error("too few cases", e, kinds[e])
+		}
+	}
+}
+
+// schematicType is a type with TVars for its TFrees.
+func schematicType(u api.Type) api.Type {
+	if u.Op == api.TFree {
+		u.Op = api.TVar
+	}
+	u.Args = slices.Clone(u.Args)
+	for i, a := range u.Args {
+		u.Args[i] = schematicType(a)
+	}
+	return u
+}
+
 // No function panics, whatever it is given; errors come in their order; and what is returned is right.
 func TestAnyTheories(t *testing.T) {
 	r := rand.New(rand.NewSource(4))
@@ -226,7 +264,7 @@ func TestAnyTheories(t *testing.T) {
 		m, g := theory.Merge("M", x, y)
 		_, h := theory.Extend(x, "E", y)
 		d, i := theory.Define(x, "D", "new", []api.Term{zero(), {}, suc()}[r.Intn(3)])
-		o, j := theory.Overload(x, "O", "size", []api.Type{nat(), {}, con("list", tfree("a"))}[r.Intn(3)], abs(nat(), zero()))
+		o, j := theory.Overload(x, "O", "size", []api.Type{nat(), {}, con("list", tfree("a")), tfree("b")}[r.Intn(4)], abs(nat(), zero()))
 		_, k := theory.Unfolded(x, zero())
 		if e != api.OK && (g != e || h != e || i != e || j != e || k != e) {
 			t.Fatal("the error of the first theory", e, g, h, i, j, k)

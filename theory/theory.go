@@ -152,9 +152,7 @@ func Overload(t api.Theory, name string, c string, at api.Type, rhs api.Term) (a
 	if x, ok := o.instance(c, u); !ok || !types.Equal(x, at) {
 		return api.Theory{}, api.ErrType
 	}
-	if at.Op != api.TCon {
-		return api.Theory{}, ErrDefine
-	}
+	// Whether a definition is permitted at this type is a question of the result, behind that of its Name and others.
 	return extended(t, name, definition(c, general(u), c+"_"+at.Name+"_def", rhs))
 }
 
