@@ -449,7 +449,8 @@ func TestOwnMemory(t *testing.T) {
 	z, _ := theory.Merge("Numbers", x, x)
 	d, _ := theory.Define(x, "Numbers", "k", size(nat()))
 	o, _ := theory.Overload(x, "Numbers", "size", nat(), abs(nat(), zero()))
-	all := []*api.Theory{&x, &y, &z, &d, &o}
+	c := theory.Clone(x)
+	all := []*api.Theory{&x, &y, &z, &d, &o, &c}
 	for i, v := range all {
 		v.Classes[1].Supers[0], v.Types[0].Name, v.Arities[1].Sorts[0][0], v.Oracles[0] = name(i), name(i), name(i), name(i)
 		for k := range v.Consts {
@@ -476,6 +477,22 @@ func TestOwnMemory(t *testing.T) {
 	u.Type.Args[0].Name = "x"
 	if rhs.Type.Args[0].Name != "nat" || !same(w, numbers()) {
 		t.Error("Unfolded")
+	}
+}
+
+func TestOpen(t *testing.T) {
+	x := numbers()
+	s, e := theory.Open(x)
+	u, f := s.Check(app(suc(), zero()))
+	if e != api.OK || f != api.OK || !types.Equal(u, nat()) || !same(theory.Clone(x), x) {
+		t.Error(e, f, u)
+	}
+	for i, c := range []func(*api.Theory){func(x *api.Theory) { x.Name = "1" }, func(x *api.Theory) { x.Axioms = nil }, addAxioms(axiom("bad", 7, zero()))} {
+		y := theory.Clone(x)
+		c(&y)
+		if _, e := theory.Open(y); e == api.OK || e != theory.Check(y) {
+			t.Error(i, e)
+		}
 	}
 }
 

@@ -103,8 +103,8 @@ func joined(name string, a, b api.Theory) api.Theory {
 	}
 }
 
-// clone returns a theory in new memory.
-func clone(t api.Theory) api.Theory {
+// Clone returns a theory in new memory.
+func Clone(t api.Theory) api.Theory {
 	r := joined(t.Name, t, api.Theory{})
 	for i := range r.Classes {
 		r.Classes[i].Supers = slices.Clone(r.Classes[i].Supers)

@@ -43,6 +43,15 @@ func Check(t api.Theory) api.Errno {
 	return e
 }
 
+// Open returns what a theory without an error says of terms, or its error. It is made once for many terms.
+func Open(t api.Theory) (term.Signature, api.Errno) {
+	o, e := open(&t)
+	if e != api.OK {
+		return term.Signature{}, e
+	}
+	return o.signature, api.OK
+}
+
 // Const returns the type of a constant, Axiom an axiom of a theory.
 func Const(t api.Theory, name string) (api.Type, bool) {
 	for _, c := range t.Consts {
@@ -78,7 +87,7 @@ func Merge(name string, a, b api.Theory) (api.Theory, api.Errno) {
 	if e := Check(r); e != api.OK {
 		return api.Theory{}, e
 	}
-	return clone(r), api.OK
+	return Clone(r), api.OK
 }
 
 // Extend returns a theory with a new name and further declarations and axioms.
@@ -98,7 +107,7 @@ func extended(t api.Theory, name string, more api.Theory) (api.Theory, api.Errno
 	if e := Check(r); e != api.OK {
 		return api.Theory{}, e
 	}
-	return clone(r), api.OK
+	return Clone(r), api.OK
 }
 
 // Unfolded returns a term in which all defined constants are replaced by what they are.

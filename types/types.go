@@ -120,6 +120,9 @@ func HasSort(thy api.Theory, t api.Type, s []string) bool {
 	return e == api.OK && hasSort(a, &t, l)
 }
 
+// HasSortIn reports whether a type of the theory that has an algebra has a sort of classes of it.
+func HasSortIn(a sort.Algebra, t *api.Type, s []string) bool { return hasSort(a, t, s) }
+
 // hasSort reports whether a type of a theory has a sort, which may have any number of classes.
 func hasSort(a sort.Algebra, t *api.Type, s []string) bool {
 	if len(s) == 0 {

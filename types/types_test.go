@@ -8,6 +8,7 @@ import (
 	"testing"
 
 	"triforium/api"
+	"triforium/sort"
 	"triforium/types"
 )
 
@@ -273,6 +274,10 @@ func TestHasSort(t *testing.T) {
 	} {
 		if types.HasSort(thy, x.t, x.s) != x.want {
 			t.Error(i, x)
+		}
+		a, e := sort.Open(thy)
+		if _, f := a.Normal(x.s); e == api.OK && f == api.OK && types.CheckIn(a, x.t) == api.OK && types.HasSortIn(a, &x.t, x.s) != x.want {
+			t.Error(i, x, "in the algebra")
 		}
 	}
 	thy.Arities[0].Class = "k"
