@@ -47,9 +47,6 @@ func (v *variables) addType(x variable, t *api.Type) {
 	v.types[x] = t
 }
 
-// isEmpty reports whether there is no variable at all.
-func (v variables) isEmpty() bool { return len(v.sorts) == 0 && len(v.types) == 0 }
-
 // has reports whether there is a variable.
 func (v variables) has(x variable) bool {
 	if x.ofTypes {
