@@ -8,11 +8,12 @@ import (
 	"triforium/kernel"
 	"triforium/model"
 	"triforium/proof"
+	"triforium/tactic"
 	"triforium/term"
 	"triforium/theory"
 )
 
-// TestReadme is the example of README.md.
+// TestReadme is the example of theorems and their proofs in README.md.
 func TestReadme(t *testing.T) {
 	a, _ := term.Read(`$A:prop`)
 	h, e := kernel.Assume(theory.Pure(), a)
@@ -27,5 +28,17 @@ func TestReadme(t *testing.T) {
 		if e != api.OK {
 			t.Error(e)
 		}
+	}
+}
+
+// TestReadmeTactic is the example of a goal in README.md.
+func TestReadmeTactic(t *testing.T) {
+	a, _ := term.Read(`$A:prop`)
+	b, _ := term.Read(`$B:prop`)
+	ab, e := kernel.Assume(theory.Pure(), term.Imp(a, b))
+	by := tactic.Expr{Kind: tactic.Then, Kids: []tactic.Expr{{Kind: tactic.Rule}, {Kind: tactic.Assume}}}
+	th, f := tactic.Prove(theory.Pure(), []kernel.Theorem{ab}, term.Imp(a, b), by, 10)
+	if e != api.OK || f != api.OK || !term.Equal(th.Prop(), term.Imp(a, b)) || len(th.Hyps()) != 1 || !term.Equal(th.Hyps()[0], term.Imp(a, b)) {
+		t.Error(e, f, th.Prop())
 	}
 }

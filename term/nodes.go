@@ -30,7 +30,10 @@ func walk(t *api.Term, yield func(*api.Term) bool) bool {
 }
 
 // meter counts nodes and their depth, and gives up above a limit, since shared memory lets a small value have very many nodes.
-type meter struct{ nodes, depth, most int }
+type meter struct {
+	nodes, depth  int
+	most, deepest int
+}
 
 // add counts a term whose root has a depth; false above the limit.
 func (m *meter) add(t *api.Term, depth int) bool {
@@ -49,12 +52,16 @@ func (m *meter) add(t *api.Term, depth int) bool {
 
 // SizeError returns the error of a term that has too many nodes or too great a depth.
 func SizeError(t *api.Term) api.Errno {
-	m := meter{most: api.MaxTerm}
+	return meter{most: api.MaxTerm, deepest: api.MaxDepth}.error(t)
+}
+
+// error returns the error of a term that is larger than the limits.
+func (m meter) error(t *api.Term) api.Errno {
 	m.add(t, 1)
 	switch {
-	case m.nodes > api.MaxTerm:
+	case m.nodes > m.most:
 		return api.ErrCount
-	case m.depth > api.MaxDepth:
+	case m.depth > m.deepest:
 		return api.ErrDepth
 	}
 	return api.OK

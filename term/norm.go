@@ -21,18 +21,23 @@ func Beta(t api.Term) (api.Term, bool) {
 
 // Norm returns the beta normal form; Eta the eta normal form of a term.
 func Norm(t api.Term, fuel int) (api.Term, api.Errno) {
-	r, e := norm(t, fuel)
+	return NormWithin(t, fuel, api.MaxTerm, api.MaxDepth)
+}
+
+// NormWithin is Norm, where no term on the way may have more nodes, or more within each other, than it is said (which must not be above the limits of terms).
+func NormWithin(t api.Term, fuel, nodes, depth int) (api.Term, api.Errno) {
+	r, e := norm(t, fuel, meter{most: nodes, deepest: depth})
 	return clone(r), e
 }
 
-// norm is Norm; what it returns shares memory with the term.
-func norm(t api.Term, fuel int) (r api.Term, e api.Errno) {
+// norm is NormWithin; what it returns shares memory with the term.
+func norm(t api.Term, fuel int, limits meter) (r api.Term, e api.Errno) {
 	defer func() {
 		if x := recover(); x != nil {
 			r, e = api.Term{}, failure(x)
 		}
 	}()
-	if e := SizeError(&t); e != api.OK {
+	if e := limits.error(&t); e != api.OK {
 		return api.Term{}, e
 	}
 	for steps := 0; ; steps++ {
@@ -43,7 +48,7 @@ func norm(t api.Term, fuel int) (r api.Term, e api.Errno) {
 			return api.Term{}, api.ErrFuel
 		}
 		next, _ := step(&t)
-		if e := SizeError(&next); e != api.OK {
+		if e := limits.error(&next); e != api.OK {
 			return api.Term{}, e
 		}
 		t = next

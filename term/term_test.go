@@ -374,6 +374,28 @@ func TestBeta(t *testing.T) {
 	}
 }
 
+// No term on the way may be larger than the limits: the first one, those between, and the last one.
+func TestNormWithin(t *testing.T) {
+	x := free("x", nat())
+	k := func(n int, inner api.Term) api.Term { return app(abs(nat(), chain(n, bound(0))), inner) } // 2n + 2 nodes
+	for i, c := range []struct {
+		t                  api.Term
+		fuel, nodes, depth int
+		want               api.Term
+		e                  api.Errno
+	}{
+		{chain(5, x), 0, 9, 5, chain(5, x), api.OK}, {chain(5, x), 0, 8, 5, x, api.ErrCount}, {chain(5, x), 0, 9, 4, x, api.ErrDepth}, {k(4, chain(3, x)), 1, 14, 6, chain(6, x), api.OK}, {k(4, chain(3, x)), 0, 14, 6, x, api.ErrFuel},
+		{k(4, chain(3, x)), 1, 12, 6, x, api.ErrCount}, {k(4, chain(5, x)), 1, 20, 7, x, api.ErrDepth}, {k(4, chain(5, x)), 1, 20, 8, chain(8, x), api.OK},
+		// a large term between two small ones
+		{app(abs(nat(), app(abs(nat(), x), app(bound(0), bound(0)))), chain(10, x)), 2, 44, 20, x, api.OK}, {app(abs(nat(), app(abs(nat(), x), app(bound(0), bound(0)))), chain(10, x)), 2, 41, 20, x, api.ErrCount},
+	} {
+		r, e := term.NormWithin(c.t, c.fuel, c.nodes, c.depth)
+		if e != c.e || e == api.OK && !term.Equal(r, c.want) || e != api.OK && !term.Equal(r, api.Term{}) {
+			t.Error(i, e)
+		}
+	}
+}
+
 func TestNorm(t *testing.T) {
 	x, y := free("x", nat()), free("y", nat())
 	first := abs(nat(), abs(nat(), bound(1)))

@@ -5,6 +5,7 @@ import (
 	"testing"
 
 	"triforium/api"
+	"triforium/sort"
 	"triforium/types"
 )
 
@@ -111,6 +112,29 @@ func TestUnify(t *testing.T) {
 	thy.Types[0].Arity = 11
 	if _, e := types.Unify(thy, con("set"), nat); e != api.ErrRange {
 		t.Error(e)
+	}
+}
+
+// New variables have indices from a given one on, and above those of both types.
+func TestUnifyIn(t *testing.T) {
+	g, e := sort.Open(signature())
+	if e != api.OK {
+		t.Fatal(e)
+	}
+	for i, x := range []struct {
+		a, b         api.Type
+		next, behind int
+		want         []api.TypeBind
+		e            api.Errno
+	}{
+		{tvar("a", 3, "c"), tvar("b", 7, "d"), 20, 21, []api.TypeBind{bind("a", 3, tvar("b", 20, "c", "d")), bind("b", 7, tvar("b", 20, "c", "d"))}, api.OK},
+		{tvar("a", 3, "c"), tvar("b", 7, "d"), 0, 9, []api.TypeBind{bind("a", 3, tvar("b", 8, "c", "d")), bind("b", 7, tvar("b", 8, "c", "d"))}, api.OK},
+		{tvar("a", 0), con("nat"), 5, 5, []api.TypeBind{bind("a", 0, con("nat"))}, api.OK}, {con("nat"), con("nat"), 5, 5, nil, api.OK}, {con("nat"), types.Prop(), 5, 0, nil, api.ErrFail}, {con("set"), con("nat"), 5, 0, nil, api.ErrMissing},
+		{con("nat"), con("list"), 5, 0, nil, api.ErrCount}, {tvar("a", 0), tvar("a", 0, "c"), 5, 0, nil, api.ErrSort}, {tvar("a", 0), con("list", tvar("a", 0)), 5, 0, nil, types.ErrOccurs},
+	} {
+		if l, behind, e := types.UnifyIn(g, x.a, x.b, x.next); e != x.e || behind != x.behind || !sameBinds(l, x.want) {
+			t.Error(i, l, behind, e)
+		}
 	}
 }
 

@@ -17,28 +17,32 @@ func Unify(thy api.Theory, a, b api.Type) ([]api.TypeBind, api.Errno) {
 	if e != api.OK {
 		return nil, e
 	}
-	if e := CheckIn(g, a); e != api.OK {
-		return nil, e
-	}
-	if e := CheckIn(g, b); e != api.OK {
-		return nil, e
-	}
-	return unifyIn(g, a, b)
+	l, _, e := UnifyIn(g, a, b, 0)
+	return l, e
 }
 
-// unifyIn is Unify for types that have no error in the theory that has an algebra.
-func unifyIn(g sort.Algebra, a, b api.Type) (l []api.TypeBind, e api.Errno) {
+// UnifyIn is Unify in the theory that has an algebra, where the indices of new variables are from next on; it returns the index behind theirs.
+func UnifyIn(g sort.Algebra, a, b api.Type, next int) (l []api.TypeBind, behind int, e api.Errno) {
 	defer func() {
 		if x := recover(); x != nil {
-			l, e = nil, failure(x)
+			l, behind, e = nil, 0, failure(x)
 		}
 	}()
-	if s := (Sorts{}); !s.Add(&a) || !s.Add(&b) {
-		return nil, api.ErrSort
+	if e := CheckIn(g, a); e != api.OK {
+		return nil, 0, e
 	}
-	u := unifier{algebra: g, binds: subst{}, next: max(MaxIndex(a), MaxIndex(b)) + 1}
+	if e := CheckIn(g, b); e != api.OK {
+		return nil, 0, e
+	}
+	if s := (Sorts{}); !s.Add(&a) || !s.Add(&b) {
+		return nil, 0, api.ErrSort
+	}
+	u := unifier{algebra: g, binds: subst{}, next: max(MaxIndex(a)+1, MaxIndex(b)+1, next)}
 	u.unify(&a, &b)
-	return u.result()
+	if l, e = u.result(); e != api.OK {
+		return nil, 0, e
+	}
+	return l, u.next, api.OK
 }
 
 // failure returns the error with which a function was left.
