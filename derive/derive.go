@@ -39,6 +39,21 @@ func Intro(l []api.Term, th kernel.Theorem) kernel.Theorem {
 	return th
 }
 
+// Through returns what a function makes of theorems in a world, where it is given them as assumptions: so no hypothesis of theirs is lost where it is equal to a premise, and their proofs do not come to stand deep within another one.
+func Through(w kernel.World, l []kernel.Theorem, build func([]kernel.Theorem) kernel.Theorem) kernel.Theorem {
+	var props []api.Term
+	var assumed []kernel.Theorem
+	for _, th := range l {
+		props = append(props, th.Prop())
+		assumed = append(assumed, Assume(w, th.Prop()))
+	}
+	r := Intro(props, build(assumed))
+	for _, th := range l {
+		r = Elim(r, th)
+	}
+	return r
+}
+
 // WithHyps returns a theorem that has some hypotheses at least: they are lost where a premise is equal to them.
 func WithHyps(th kernel.Theorem, l []api.Term) kernel.Theorem {
 	have := th.Hyps()

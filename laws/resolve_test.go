@@ -161,7 +161,12 @@ func (s *subgoals) rule(state kernel.Theorem, at, kind int) kernel.Theorem {
 
 // sameStated reports whether a theorem states something.
 func sameStated(th kernel.Theorem, want claim) bool {
-	return term.Equal(th.Prop(), want.prop) && must(term.Text(th.Prop())) == must(term.Text(want.prop)) && slices.EqualFunc(th.Hyps(), want.hyps, term.Equal) && slices.Equal(th.Oracles(), want.oracles)
+	return term.Equal(th.Prop(), want.prop) && sameNames(th.Prop(), want.prop) && slices.EqualFunc(th.Hyps(), want.hyps, term.Equal) && slices.Equal(th.Oracles(), want.oracles)
+}
+
+// sameNames reports whether the abstractions of equal terms have the same names.
+func sameNames(a, b api.Term) bool {
+	return a.Name == b.Name && slices.EqualFunc(a.Kids, b.Kids, sameNames)
 }
 
 // taken reports whether the checker takes the proof of a theorem, and finds what it states.

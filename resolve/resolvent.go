@@ -14,7 +14,6 @@ import (
 type derivation struct {
 	*question
 	way
-	state    kernel.Theorem
 	premises []api.Term     // of the state
 	pieces   []piece        // of the subgoal
 	concl    api.Term       // of the subgoal
@@ -37,19 +36,16 @@ func (q *question) resolvent(w way, i api.Inst) (th kernel.Theorem, e api.Errno)
 	whole := s.normal(i, w.whole)
 	all, _ := premises(whole, len(q.premises)-1+len(w.goals))
 	d.news = all[q.at : q.at+len(w.goals)]
-	state := instance(i, q.state)
-	d.state = q.normalized(s, i, state, q.state.Prop())
-	d.premises, _ = premises(d.state.Prop(), len(q.premises))
+	from := []kernel.Theorem{q.normalized(s, i, q.state)}
+	d.premises, _ = premises(from[0].Prop(), len(q.premises))
 	d.pieces, d.concl = along(q.pieces, d.premises[q.at])
-	wanted := state.Hyps()
 	if q.rule.Is() {
-		rule := instance(i, q.rule)
-		q.wantOneType(rule, i)
-		d.rule = q.normalized(s, i, rule, q.rule.Prop())
-		d.from, d.to = premises(d.rule.Prop(), len(q.from))
-		wanted = append(wanted, rule.Hyps()...)
+		rule := q.normalized(s, i, q.rule)
+		q.wantOneType(i)
+		d.from, d.to = premises(rule.Prop(), len(q.from))
+		from = append(from, intro(params(d.pieces), rule))
 	}
-	return derive.Named(derive.WithHyps(d.theorem(), wanted), whole), api.OK
+	return derive.Named(derive.Through(q.world, from, d.theorem), whole), api.OK
 }
 
 // wantSmall looks whether the hypotheses become small enough; of propositions this is asked where they are made.
@@ -63,15 +59,19 @@ func (q *question) wantSmall(s sizer) {
 	}
 }
 
-// normalized returns an instance of a theorem that states a proposition, so that it states the beta normal form.
-func (q *question) normalized(s sizer, i api.Inst, th kernel.Theorem, prop api.Term) kernel.Theorem {
-	s.normal(i, prop) // leaves, if this is not to be had
+// normalized returns an instance of a theorem that states the beta normal form of the proposition.
+func (q *question) normalized(s sizer, i api.Inst, th kernel.Theorem) kernel.Theorem {
+	s.normal(i, th.Prop()) // leaves, if this is not to be had
+	th = instance(i, th)
 	return q.maker.normal(th.Prop()).of(th)
 }
 
 // wantOneType looks whether the sorts and types of variables are the same in all of the lifted rule.
-func (q *question) wantOneType(rule kernel.Theorem, i api.Inst) {
-	all := parts(rule)
+func (q *question) wantOneType(i api.Inst) {
+	var all []api.Term
+	for _, t := range parts(q.rule) {
+		all = append(all, term.Apply(i, t))
+	}
 	for _, p := range hyps(q.pieces) {
 		all = append(all, term.Apply(i, p.term))
 	}
@@ -80,9 +80,12 @@ func (q *question) wantOneType(rule kernel.Theorem, i api.Inst) {
 	}
 }
 
-// theorem returns the state with the new subgoals in the place of the old one.
-func (d *derivation) theorem() kernel.Theorem {
-	th := d.state
+// theorem returns the state with the new subgoals in the place of the old one, from the state and the rule for all values of the parameters.
+func (d *derivation) theorem(from []kernel.Theorem) kernel.Theorem {
+	if d.question.rule.Is() {
+		d.rule = d.maker.elim(params(d.pieces), from[1])
+	}
+	th := from[0]
 	for _, a := range d.premises[:d.at] {
 		th = derive.Elim(th, derive.Assume(d.world, a))
 	}

@@ -44,37 +44,37 @@ func (r *runner) assumption(e *Expr, f focus) iter.Seq[focus] {
 }
 
 // one yields the state that a function makes, if the kernel lets it be, and there is one.
-func one(make func() kernel.Theorem) iter.Seq[kernel.Theorem] {
+func one(build func() kernel.Theorem) iter.Seq[kernel.Theorem] {
 	return func(yield func(kernel.Theorem) bool) {
-		if th, ok := attempted(make); ok {
+		if th, ok := attempted(build); ok {
 			yield(th)
 		}
 	}
 }
 
 // attempted returns what a function makes; false, if it leaves.
-func attempted(make func() kernel.Theorem) (th kernel.Theorem, ok bool) {
+func attempted(build func() kernel.Theorem) (th kernel.Theorem, ok bool) {
 	defer func() {
 		if recover() != nil {
 			th, ok = kernel.Theorem{}, false
 		}
 	}()
-	return make(), true
+	return build(), true
 }
 
-// replaced returns a state in which new subgoals stand in the place of one, which a function proves of them.
-func (r *runner) replaced(state kernel.Theorem, at int, news []api.Term, prove func(old api.Term) kernel.Theorem, more ...api.Term) kernel.Theorem {
-	l, _ := term.Strip(state.Prop())
-	th := state
-	for _, a := range l[:at] {
-		th = derive.Elim(th, derive.Assume(r.world, a))
-	}
-	th = derive.Elim(th, prove(l[at]))
-	th = derive.Intro(slices.Concat(l[:at], news), th)
-	return derive.WithHyps(th, append(state.Hyps(), more...))
+// replaced returns a state in which new subgoals stand in the place of one, which a function proves of them, and of further theorems.
+func (r *runner) replaced(state kernel.Theorem, at int, news []api.Term, prove func(more []kernel.Theorem) kernel.Theorem, more ...kernel.Theorem) kernel.Theorem {
+	return derive.Through(r.world, append([]kernel.Theorem{state}, more...), func(from []kernel.Theorem) kernel.Theorem {
+		l, _ := term.Strip(state.Prop())
+		th := from[0]
+		for _, a := range l[:at] {
+			th = derive.Elim(th, derive.Assume(r.world, a))
+		}
+		return derive.Intro(slices.Concat(l[:at], news), derive.Elim(th, prove(from[1:])))
+	})
 }
 
-// goal returns a subgoal of a state.
+// goalAt returns a subgoal of a state.
 func goalAt(state kernel.Theorem, at int) api.Term {
 	l, _ := term.Strip(state.Prop())
 	return l[at]
@@ -83,14 +83,15 @@ func goalAt(state kernel.Theorem, at int) api.Term {
 func (r *runner) rotation(e *Expr, f focus) iter.Seq[focus] {
 	return r.basic(e, f, func(at int) iter.Seq[kernel.Theorem] {
 		return one(func() kernel.Theorem {
-			l, _ := term.Strip(f.state.Prop())
-			l = l[:f.from+f.count]
-			th := f.state
-			for _, a := range l {
-				th = derive.Elim(th, derive.Assume(r.world, a))
-			}
-			turned := slices.Concat(l[:at], l[at+1:], l[at:at+1])
-			return derive.WithHyps(derive.Intro(turned, th), f.state.Hyps())
+			return derive.Through(r.world, []kernel.Theorem{f.state}, func(from []kernel.Theorem) kernel.Theorem {
+				l, _ := term.Strip(f.state.Prop())
+				l = l[:f.from+f.count]
+				th := from[0]
+				for _, a := range l {
+					th = derive.Elim(th, derive.Assume(r.world, a))
+				}
+				return derive.Intro(slices.Concat(l[:at], l[at+1:], l[at:at+1]), th)
+			})
 		})
 	})
 }
@@ -100,10 +101,10 @@ func (r *runner) protection(e *Expr, f focus) iter.Seq[focus] {
 		return one(func() kernel.Theorem {
 			a := goalAt(f.state, at)
 			if b, ok := term.IsProtect(a); ok {
-				return r.replaced(f.state, at, []api.Term{b}, func(api.Term) kernel.Theorem { return protected(derive.Assume(r.world, b)) })
+				return r.replaced(f.state, at, []api.Term{b}, func([]kernel.Theorem) kernel.Theorem { return protected(derive.Assume(r.world, b)) })
 			}
 			b := term.Protect(a)
-			return r.replaced(f.state, at, []api.Term{b}, func(api.Term) kernel.Theorem {
+			return r.replaced(f.state, at, []api.Term{b}, func([]kernel.Theorem) kernel.Theorem {
 				return derive.Must(kernel.EqElim(protection(r.world, a), derive.Assume(r.world, b)))
 			})
 		})
@@ -115,7 +116,7 @@ func (r *runner) cutting(e *Expr, f focus) iter.Seq[focus] {
 		return one(func() kernel.Theorem {
 			first := derive.Assume(r.world, e.Prop)
 			whole := term.Imp(e.Prop, goalAt(f.state, at))
-			return r.replaced(f.state, at, []api.Term{e.Prop, whole}, func(api.Term) kernel.Theorem {
+			return r.replaced(f.state, at, []api.Term{e.Prop, whole}, func([]kernel.Theorem) kernel.Theorem {
 				return derive.Elim(derive.Assume(r.world, whole), first)
 			})
 		})
@@ -133,13 +134,13 @@ func (r *runner) unfolding(e *Expr, f focus) iter.Seq[focus] {
 				panic(api.ErrFail)
 			}
 			function := api.Term{Op: api.Abs, Name: "x", Type: c.Type, Kids: []api.Term{body}}
-			same := derive.Must(kernel.Combination(derive.Must(r.world.Reflexive(function)), rule))
-			to := r.beta(function, right)
-			same = derive.Must(kernel.Transitive(derive.Must(kernel.Symmetric(r.beta(function, c))), derive.Must(kernel.Transitive(same, to))))
-			_, unfolded, _ := term.IsEq(same.Prop())
-			return r.replaced(f.state, at, []api.Term{unfolded}, func(api.Term) kernel.Theorem {
+			unfolded := term.Put(body, right)
+			return r.replaced(f.state, at, []api.Term{unfolded}, func(more []kernel.Theorem) kernel.Theorem {
+				same := derive.Must(kernel.Combination(derive.Must(r.world.Reflexive(function)), more[0]))
+				same = derive.Must(kernel.Transitive(same, r.beta(function, right)))
+				same = derive.Must(kernel.Transitive(derive.Must(kernel.Symmetric(r.beta(function, c))), same))
 				return derive.Must(kernel.EqElim(derive.Must(kernel.Symmetric(same)), derive.Assume(r.world, unfolded)))
-			}, rule.Hyps()...)
+			}, rule)
 		})
 	})
 }

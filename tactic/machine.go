@@ -132,13 +132,13 @@ func (r *runner) apply(e *Expr, f focus) iter.Seq[focus] {
 }
 
 // basic yields the states that a basic tactic makes of a subgoal in focus, which is a step, but for those that are too large.
-func (r *runner) basic(e *Expr, f focus, make func(at int) iter.Seq[kernel.Theorem]) iter.Seq[focus] {
+func (r *runner) basic(e *Expr, f focus, states func(at int) iter.Seq[kernel.Theorem]) iter.Seq[focus] {
 	return func(yield func(focus) bool) {
 		r.step()
 		if e.At >= f.count {
 			return
 		}
-		for th := range make(f.from + e.At) {
+		for th := range states(f.from + e.At) {
 			if goals, ok := fits(th); ok && !yield(f.on(th, goals)) {
 				return
 			}

@@ -9,6 +9,7 @@ import (
 	"triforium/api"
 	"triforium/checker"
 	"triforium/kernel"
+	"triforium/proof"
 	"triforium/tactic"
 	"triforium/term"
 	"triforium/theory"
@@ -226,6 +227,12 @@ func TestHypotheses(t *testing.T) {
 		if got := all(t, l); e != api.OK || got != x.want {
 			t.Errorf("%d: %v %s\n want %s", i, e, got, x.want)
 		}
+	}
+	// the equation is a hypothesis of the state
+	q := must(term.Eq(prop("A"), prop("B ==> B")))
+	own := must(kernel.ImpElim(must(kernel.ImpIntro(q, claimed("A ==> #B"))), must(kernel.Assume(world(), q))))
+	if l, _, e := tactic.Run(world(), rules(), basic(tactic.Unfold, 0, 6), own, 100, 100); e != api.OK || all(t, l) != "[E] [A == B ==> B] (B ==> B) ==> #B" {
+		t.Error(e, all(t, l))
 	}
 	// the hypothesis of the equation is a subgoal
 	l, _, e := tactic.Run(world(), rules(), basic(tactic.Unfold, 1, 6), claimed("E ==> A ==> #B"), 100, 100)
@@ -513,5 +520,23 @@ func TestOwn(t *testing.T) {
 	}
 	if got := all(t, l); got != "G ==> (G ==> A) ==> #B" {
 		t.Error(got)
+	}
+}
+
+// The proof of a state that many steps have made is not too large, nor too deep.
+func TestManySteps(t *testing.T) {
+	s := prop("#B")
+	for range 50 {
+		s = term.Imp(prop("A"), s)
+	}
+	protect := basic(tactic.Protect)
+	e := tactical(tactic.Each, then(protect, protect, protect, protect, protect, protect, protect, protect, protect))
+	l, more, code := tactic.Run(world(), nil, e, claim(world(), s), 450, 9)
+	if code != api.OK || more || len(l) != 1 || !strings.HasPrefix(show(l[0].Prop()), "#A ==> #A ==> ") {
+		t.Fatal(code, len(l))
+	}
+	taken(t, l[0])
+	if nodes, depth := proof.Size(l[0].Proof()); nodes > 200000 || depth > 2000 {
+		t.Error(nodes, depth)
 	}
 }
