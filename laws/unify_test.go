@@ -310,3 +310,110 @@ func TestUnifiersByTheWord(t *testing.T) {
 		t.Error(good, several, flex)
 	}
 }
+
+// flexible returns a term whose head is one of few variables, which may be of another type each time.
+func (g *grower) flexible() api.Term {
+	around := []api.Type{g.typ(), g.typ()}[:g.pick(3)]
+	head := api.Term{Op: api.Var, Name: []string{"F", "G", "H"}[g.pick(3)], Num: g.pick(2), Type: g.typ()}
+	var args []api.Term
+	for range g.pick(3) {
+		t := g.typ()
+		head.Type = fun(t, head.Type)
+		args = append([]api.Term{g.term(t, around, 1)}, args...)
+	}
+	t := app(head, args[:g.pick(len(args)+1)]...)
+	for _, a := range slices.Backward(around) {
+		t = abs(a, t)
+	}
+	return t
+}
+
+// unifier returns any unifier whose terms are right ones. Some bind a variable twice, or have a rigid side.
+func (g *grower) unifier() unify.Unifier {
+	var u unify.Unifier
+	for range g.pick(3) {
+		u.Inst.Terms = append(u.Inst.Terms, api.TermBind{Name: []string{"F", "x"}[g.pick(2)], Index: g.pick(3), To: g.flexible()})
+	}
+	for range g.pick(4) {
+		u.Flex = append(u.Flex, pattern.Pair{A: g.flexible(), B: g.flexible()})
+	}
+	if len(u.Flex) > 0 && g.pick(10) == 0 {
+		u.Flex[g.pick(len(u.Flex))].B = constant("nil", con("list", con("nat")))
+	}
+	return u
+}
+
+// headOf returns the head of a term behind its abstractions.
+func headOf(t api.Term) api.Term {
+	for t.Op == api.Abs {
+		t = t.Kids[0]
+	}
+	h, _ := term.Spine(t)
+	return h
+}
+
+// naiveClose closes a unifier whose terms are right ones. It also tells whether a head stands at several types.
+func naiveClose(u unify.Unifier) (i api.Inst, several bool, e api.Errno) {
+	sides := pattern.Terms(u.Flex)
+	next := 0
+	for _, t := range sides {
+		next = max(next, term.MaxIndex(t)+1)
+	}
+	for _, b := range u.Inst.Terms {
+		next = max(next, term.MaxIndex(b.To)+1)
+	}
+	first, of := map[string]api.Type{}, map[string]api.Term{}
+	for _, t := range sides {
+		h := headOf(t)
+		if h.Op != api.Var {
+			return api.Inst{}, false, api.ErrArgument
+		}
+		name := h.Name + "." + strconv.Itoa(h.Num)
+		if typ, ok := first[name]; ok {
+			several = several || !types.Equal(typ, h.Type)
+			continue
+		}
+		first[name] = h.Type
+		args, result := types.Strip(h.Type)
+		to, ok := of[must(types.Text(result))]
+		if !ok {
+			to = api.Term{Op: api.Var, Name: "H", Num: next, Type: result}
+			of[must(types.Text(result))] = to
+			next++
+		}
+		for _, a := range slices.Backward(args) {
+			to = abs(a, to)
+		}
+		i.Terms = append(i.Terms, api.TermBind{Name: h.Name, Index: h.Num, To: to})
+	}
+	i, e = pattern.Compose(u.Inst, i)
+	return i, several, e
+}
+
+func TestCloseByTheWord(t *testing.T) {
+	thy := theories()[1]
+	seen := map[api.Errno]int{}
+	good := 0
+	for seed := range int64(4000) {
+		g := newGrower(seed)
+		if seed%2 == 0 {
+			g.loosened()
+		}
+		u := g.unifier()
+		for _, b := range u.Inst.Terms {
+			must(term.Check(thy, b.To))
+		}
+		want, several, f := naiveClose(u)
+		got, e := unify.Close(thy, u)
+		if e != f || instText(got) != instText(want) {
+			t.Fatal(seed, "\n"+instText(u.Inst)+pairsText(u.Flex), e, "\n"+instText(got), f, "\n"+instText(want))
+		}
+		seen[e]++
+		if several && e == api.OK {
+			good++
+		}
+	}
+	if len(seen) != 3 || seen[api.OK] < 2000 || seen[api.ErrArgument] < 50 || seen[api.ErrDuplicate] < 50 || good < 500 {
+		t.Error(seen, good)
+	}
+}

@@ -5,15 +5,20 @@ import (
 
 	"triforium/api"
 	"triforium/binds"
-	"triforium/term"
 	"triforium/types"
 )
+
+// variable is what an instantiation binds. Its type is no part of it: terms that are checked one by one may have it at several types.
+type variable struct {
+	name  string
+	index int
+}
 
 // closer makes the heads of flexible terms constant functions, whose results are new variables.
 type closer struct {
 	next    int
-	heads   []api.Term
-	results []api.Term // a new variable for each type of results
+	heads   map[variable]bool // those that are bound
+	results []api.Term        // a new variable for each type of results
 	inst    api.Inst
 }
 
@@ -28,10 +33,11 @@ func (c *closer) add(t *api.Term) bool {
 	if t.Op != api.Var {
 		return false
 	}
-	if slices.ContainsFunc(c.heads, func(h api.Term) bool { return term.Equal(h, *t) }) {
+	v := variable{t.Name, t.Num}
+	if c.heads[v] {
 		return true
 	}
-	c.heads = append(c.heads, *t)
+	c.heads[v] = true
 	args, result := types.Strip(t.Type)
 	to := binds.Abstracted(args, c.result(result))
 	c.inst.Terms = append(c.inst.Terms, api.TermBind{Name: t.Name, Index: t.Num, To: to})

@@ -402,6 +402,12 @@ func TestClose(t *testing.T) {
 		// each head once, a variable for each type of results; what is bound is changed by it
 		{unify.Unifier{Inst: api.Inst{Terms: []api.TermBind{bind(`?x.0:n`, `(?F.0:n1 d:n)`)}}, Flex: pairs(`(?F.0:n1 c:n)`, `(?G.0:n1 d:n)`, `(\x:n . (?P.0:fun(nat, prop) #0))`, `(\x:n . ?Q.0:p)`, `?K.0:n2`, `?F.0:n1`)},
 			`?x.0 := ((\x:n . ?H.1:n) d:n); ?F.0 := (\x:n . ?H.1:n); ?G.0 := (\x:n . ?H.1:n); ?P.0 := (\x:n . ?H.2:p); ?Q.0 := ?H.2:p; ?K.0 := (\x:n . (\x:n . ?H.1:n))`, api.OK},
+		// a head is its name and index: at several types it is bound where it stands first, and the others make no variable
+		{unify.Unifier{Flex: pairs(`?F.0:n`, `?F.0:n1`)}, `?F.0 := ?H.1:n`, api.OK}, {unify.Unifier{Flex: pairs(`(?F.0:n1 c:n)`, `?F.0:n`)}, `?F.0 := (\x:n . ?H.1:n)`, api.OK}, {unify.Unifier{Flex: pairs(`?F.0:n`, `?F.0:n`, `?F.0:n1`, `?F.0:n`)}, `?F.0 := ?H.1:n`, api.OK},
+		{unify.Unifier{Flex: pairs(`?F.0:n`, `(\x:n . (?F.0:fun(nat, prop) #0))`, `?G.0:list(nat)`, `?F.0:p`)}, `?F.0 := ?H.1:n; ?G.0 := ?H.2:list(nat)`, api.OK}, {unify.Unifier{Flex: pairs(`?F.0:?a.0`, `?F.0:?a.0{e}`, `?G.0:?a.0{e}`, `?F.2:?a.0`)}, `?F.0 := ?H.3:?a.0; ?G.0 := ?H.4:?a.0{e}; ?F.2 := ?H.3:?a.0`, api.OK},
+		{unify.Unifier{Flex: pairs(`?F.0:n`, `?F.1:n1`, `?F.1:n`, `?F.0:p`)}, `?F.0 := ?H.2:n; ?F.1 := (\x:n . ?H.2:n)`, api.OK}, {unify.Unifier{Flex: pairs(`?F.0:n`, `?F.0:fun(nat, ?a.6)`)}, `?F.0 := ?H.7:n`, api.OK},
+		{unify.Unifier{Inst: api.Inst{Terms: []api.TermBind{bind(`?F.0:n`, `c:n`), bind(`?x.0:n`, `?G.0:n`)}}, Flex: pairs(`?F.0:n`, `?F.0:n1`, `?G.0:n`, `?G.0:p`)}, `?F.0 := c:n; ?x.0 := ?H.1:n; ?G.0 := ?H.1:n`, api.OK},
+		{unify.Unifier{Flex: pairs(`?F.0:n`, `?F.0:n1`, `c:n`, `?F.0:n`)}, ``, api.ErrArgument}, {unify.Unifier{Inst: api.Inst{Terms: []api.TermBind{bind(`?F.0:n`, `c:n`), bind(`?F.0:n1`, `s:n1`)}}, Flex: pairs(`?F.0:n`, `?F.0:n1`)}, ``, api.ErrDuplicate},
 		// the errors of terms first, those of Inst ahead of the others
 		{unify.Unifier{Inst: api.Inst{Terms: []api.TermBind{bind(`?x.0:n`, `q:n`)}}, Flex: []pattern.Pair{{}}}, ``, api.ErrMissing}, {unify.Unifier{Flex: []pattern.Pair{{A: tm(`c:n`)}}}, ``, api.ErrForm},
 		{unify.Unifier{Flex: pairs(`(?F.0:n1 c:n)`, `c:n`)}, ``, api.ErrArgument}, {unify.Unifier{Flex: pairs(`(\x:n . #0)`, `(\x:n . ?y.0:n)`)}, ``, api.ErrArgument}, {unify.Unifier{Flex: pairs(`((\x:n . #0) ?y.0:n)`, `?y.0:n`)}, ``, api.ErrArgument},
