@@ -6,7 +6,9 @@ import (
 	"triforium/api"
 	"triforium/checker"
 	"triforium/kernel"
+	"triforium/mixfix"
 	"triforium/model"
+	"triforium/outer"
 	"triforium/proof"
 	"triforium/tactic"
 	"triforium/term"
@@ -40,5 +42,16 @@ func TestReadmeTactic(t *testing.T) {
 	th, f := tactic.Prove(theory.Pure(), []kernel.Theorem{ab}, term.Imp(a, b), by, 10)
 	if e != api.OK || f != api.OK || !term.Equal(th.Prop(), term.Imp(a, b)) || len(th.Hyps()) != 1 || !term.Equal(th.Hyps()[0], term.Imp(a, b)) {
 		t.Error(e, f, th.Prop())
+	}
+}
+
+// TestReadmeNotations is the example of notations and commands in README.md.
+func TestReadmeNotations(t *testing.T) {
+	thy, l := theory.Pure(), mixfix.Pure()
+	x, e := mixfix.Read(thy, l, nil, "!!x. x == x ==> A", api.Type{})
+	s, f := mixfix.Print(thy, l, nil, x)
+	c, at, g := outer.Commands(`lemma a: "` + s + `" by this`)
+	if e != api.OK || f != api.OK || g != api.OK || at != 0 || s != "!! x. x == x ==> A" || len(c) != 2 || len(c[0].Parts) != 3 || c[0].Parts[2].Text != s || c[1].Parts[0].Text != "this" {
+		t.Error(e, f, g, s, c)
 	}
 }
