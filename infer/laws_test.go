@@ -289,7 +289,7 @@ func TestNaive(t *testing.T) {
 	algebra, _ := sort.Open(thy)
 	m := maker{rand.New(rand.NewSource(1))}
 	count := map[api.Errno]int{}
-	for range 15000 {
+	for range 8000 {
 		known, raw, want := m.random()
 		n := naive{thy: thy, algebra: algebra, known: known, names: map[string]api.Type{}}
 		l, e := infer.Terms(thy, known, raw, want)
@@ -302,7 +302,7 @@ func TestNaive(t *testing.T) {
 			laws(t, m, thy, known, raw, want, l)
 		}
 	}
-	if count[api.OK] < 2000 || count[api.ErrType] < 2000 || count[api.ErrSort] < 200 {
+	if count[api.OK] < 1000 || count[api.ErrType] < 1000 || count[api.ErrSort] < 100 {
 		t.Error(count)
 	}
 }
@@ -456,7 +456,7 @@ func TestAny(t *testing.T) {
 		}
 		return x
 	}
-	for range 20000 {
+	for range 8000 {
 		x := odd(3)
 		e := infer.Form(x)
 		_, f := infer.Term(numbers(), []infer.Known{{"x", m.typ(1)}}, x, m.open(3))
