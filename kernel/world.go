@@ -2,6 +2,7 @@ package kernel
 
 import (
 	"triforium/api"
+	"triforium/term"
 	"triforium/theory"
 )
 
@@ -44,6 +45,14 @@ func (w World) Theory() api.Theory {
 		return api.Theory{}
 	}
 	return theory.Clone(w.is.theory)
+}
+
+// Signature returns what the theory of a world says of terms; the zero value has none.
+func (w World) Signature() term.Signature {
+	if w.is == nil {
+		return term.Signature{}
+	}
+	return w.is.signature
 }
 
 // perform makes a step in a world.

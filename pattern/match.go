@@ -19,6 +19,11 @@ func Match(thy api.Theory, p, t api.Term) (api.Inst, api.Errno) {
 	if e != api.OK {
 		return api.Inst{}, e
 	}
+	return MatchIn(s, p, t)
+}
+
+// MatchIn is Match in the theory that has a signature.
+func MatchIn(s term.Signature, p, t api.Term) (api.Inst, api.Errno) {
 	m := matcher{signature: s, terms: map[key]api.Term{}}
 	if e := m.add(p, t); e != api.OK {
 		return api.Inst{}, e

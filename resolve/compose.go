@@ -19,7 +19,6 @@ const maxUnifiers = 1000
 type question struct {
 	*call
 	maker    *maker
-	theory   api.Theory
 	rule     kernel.Theorem
 	pieces   []piece // of the subgoal
 	concl    api.Term
@@ -47,6 +46,9 @@ type goal struct {
 // resolvents yields the states that come from a call that has no error.
 func (c *call) resolvents() iter.Seq[kernel.Theorem] {
 	return func(yield func(kernel.Theorem) bool) {
+		if c.hopeless() {
+			return
+		}
 		q, ok := c.ready()
 		if !ok {
 			return
@@ -61,11 +63,14 @@ func (c *call) resolvents() iter.Seq[kernel.Theorem] {
 
 // resolve yields the resolvents of a way; false, if no more are wanted.
 func (q *question) resolve(w way, yield func(kernel.Theorem) bool) bool {
+	if slices.ContainsFunc(w.pairs, func(p pattern.Pair) bool { return clashes(&p.A, &p.B) }) {
+		return true
+	}
 	if w.whole.Op == 0 || !within(&w.whole) {
 		return true
 	}
 unifiers:
-	for u := range first(unify.All(q.theory, w.pairs, q.depth), maxUnifiers) {
+	for u := range first(unify.All(q.world.Theory(), w.pairs, q.depth), maxUnifiers) {
 		if len(u.Flex) > 0 {
 			continue unifiers
 		}
@@ -103,7 +108,7 @@ func (c *call) ready() (r *question, ok bool) {
 	if !c.limited() {
 		return nil, false
 	}
-	q := question{call: c, theory: c.world.Theory(), maker: newMaker(c.world, c.state)}
+	q := question{call: c, maker: newMaker(c.world, c.state)}
 	if c.kind != byAssumption {
 		q.maker = newMaker(c.world, c.rule, c.state)
 	}
@@ -140,7 +145,7 @@ func (q *question) byRule() way {
 	for _, a := range q.from {
 		w.goals = append(w.goals, q.goal(q.pieces, a))
 	}
-	w.prove = func(d *derivation) kernel.Theorem { return d.same(d.to, d.concl).of(d.applied(d.rule, 0)) }
+	w.prove = func(d *derivation) kernel.Theorem { return d.same(d.to, d.concl).Of(d.applied(d.rule, 0)) }
 	return w
 }
 
@@ -160,7 +165,7 @@ func (q *question) by(i int) way {
 	}
 	if q.kind == Erule {
 		w.pairs = slices.Insert(w.pairs, 0, q.pair(q.to, q.concl))
-		w.prove = func(d *derivation) kernel.Theorem { return d.same(d.to, d.concl).of(solved(d)) }
+		w.prove = func(d *derivation) kernel.Theorem { return d.same(d.to, d.concl).Of(solved(d)) }
 		return w
 	}
 	w.goals = append(w.goals, goal{pieces: flat(append(rest, piece{term: q.to})), concl: q.concl})

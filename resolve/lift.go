@@ -13,39 +13,10 @@ import (
 // maxBinds is how many variables of a kind can be raised.
 const maxBinds = 100
 
-// parts returns the hypotheses of a theorem, and then its proposition.
-func parts(th kernel.Theorem) []api.Term { return append(th.Hyps(), th.Prop()) }
-
-// name names a variable of terms or types.
-type name struct {
-	name  string
-	index int
-}
-
-// variables returns the Vars and the TVars of a theorem, each once, in the order in which they occur.
-func variables(th kernel.Theorem) (vars []api.Term, typeVars []api.Type) {
-	seen, seenTypes := map[name]bool{}, map[name]bool{}
-	for _, t := range parts(th) {
-		for n := range term.Nodes(&t) {
-			if v := (name{n.Name, n.Num}); n.Op == api.Var && !seen[v] {
-				seen[v] = true
-				vars = append(vars, *n)
-			}
-			for u := range types.Nodes(&n.Type) {
-				if v := (name{u.Name, u.Index}); u.Op == api.TVar && !seenTypes[v] {
-					seenTypes[v] = true
-					typeVars = append(typeVars, *u)
-				}
-			}
-		}
-	}
-	return vars, typeVars
-}
-
 // behind returns the index behind those of a theorem.
 func behind(th kernel.Theorem) int {
 	next := 0
-	for _, t := range parts(th) {
+	for _, t := range derive.Parts(th) {
 		next = max(next, term.MaxIndex(t)+1)
 	}
 	return next
@@ -54,7 +25,7 @@ func behind(th kernel.Theorem) int {
 // raised returns a rule whose indices are greater by a number, and whose Vars are functions of parameters, which they are applied to.
 func raised(rule kernel.Theorem, n int, params []piece) kernel.Theorem {
 	var i api.Inst
-	vars, typeVars := variables(rule)
+	vars, typeVars := derive.Variables(rule)
 	for _, v := range typeVars {
 		if n > 0 {
 			i.Types = append(i.Types, api.TypeBind{Name: v.Name, Index: v.Index, To: types.Raise(v, n)})
@@ -102,7 +73,7 @@ func Lift(rule kernel.Theorem, at int, state kernel.Theorem) (th kernel.Theorem,
 		return kernel.Theorem{}, e
 	}
 	n := behind(state)
-	vars, typeVars := variables(rule)
+	vars, typeVars := derive.Variables(rule)
 	if len(vars) > maxBinds || n > 0 && len(typeVars) > maxBinds {
 		return kernel.Theorem{}, api.ErrCount
 	}
@@ -146,7 +117,7 @@ func (m *maker) lifted(rule kernel.Theorem, l []piece) kernel.Theorem {
 		th = derive.Intro(all, intro(l, m.solved(rule, all, l)))
 	} else { // what is assumed on the way would be too much beside these
 		behind := intro(l, rule)
-		again := m.elim(l, derive.Assume(m.world, behind.Prop()))
+		again := m.elim(l, derive.Assume(m.World, behind.Prop()))
 		th = derive.Intro(all, intro(l, m.solved(again, all, l)))
 		th = derive.Elim(derive.Must(kernel.ImpIntro(behind.Prop(), th)), behind)
 	}
@@ -156,7 +127,7 @@ func (m *maker) lifted(rule kernel.Theorem, l []piece) kernel.Theorem {
 // solved returns the conclusion of a rule, whose lifted premises are assumed, and the assumptions among flat pieces.
 func (m *maker) solved(rule kernel.Theorem, lifted []api.Term, l []piece) kernel.Theorem {
 	for _, a := range lifted {
-		rule = derive.Elim(rule, m.elim(l, derive.Assume(m.world, a)))
+		rule = derive.Elim(rule, m.elim(l, derive.Assume(m.World, a)))
 	}
 	return rule
 }

@@ -7,6 +7,12 @@ import (
 	"triforium/term"
 )
 
+// name names a variable of terms or types.
+type name struct {
+	name  string
+	index int
+}
+
 // Limits of resolution.
 const (
 	maxImps  = 200
@@ -33,9 +39,9 @@ func (c *call) limited() bool {
 				imps++
 			}
 		}
-		v, u := variables(th)
+		v, u := derive.Variables(th)
 		hyps, vars, typeVars = hyps+len(th.Hyps()), vars+len(v), typeVars+len(u)
-		for _, t := range parts(th) {
+		for _, t := range derive.Parts(th) {
 			if !within(&t) {
 				return false
 			}
@@ -134,7 +140,7 @@ func (s sizer) normal(i api.Inst, t api.Term) api.Term {
 
 // restricted returns the binds of an instantiation for what stands in a theorem.
 func restricted(i api.Inst, th kernel.Theorem) api.Inst {
-	vars, typeVars := variables(th)
+	vars, typeVars := derive.Variables(th)
 	wanted, wantedTypes := map[name]bool{}, map[name]bool{}
 	for _, v := range vars {
 		wanted[name{v.Name, v.Num}] = true

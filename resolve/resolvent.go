@@ -6,6 +6,7 @@ import (
 	"triforium/api"
 	"triforium/binds"
 	"triforium/derive"
+	"triforium/equate"
 	"triforium/kernel"
 	"triforium/term"
 )
@@ -63,13 +64,13 @@ func (q *question) wantSmall(s sizer) {
 func (q *question) normalized(s sizer, i api.Inst, th kernel.Theorem) kernel.Theorem {
 	s.normal(i, th.Prop()) // leaves, if this is not to be had
 	th = instance(i, th)
-	return q.maker.normal(th.Prop()).of(th)
+	return q.maker.Normal(th.Prop()).Of(th)
 }
 
 // wantOneType looks whether the sorts and types of variables are the same in all of the lifted rule.
 func (q *question) wantOneType(i api.Inst) {
 	var all []api.Term
-	for _, t := range parts(q.rule) {
+	for _, t := range derive.Parts(q.rule) {
 		all = append(all, term.Apply(i, t))
 	}
 	for _, p := range hyps(q.pieces) {
@@ -94,12 +95,12 @@ func (d *derivation) theorem(from []kernel.Theorem) kernel.Theorem {
 }
 
 // same returns the equation of terms whose eta normal forms are equal.
-func (d *derivation) same(a, b api.Term) equation { return d.maker.same(a, b) }
+func (d *derivation) same(a, b api.Term) equate.Equation { return d.maker.Alike(a, b) }
 
 // assumed returns what is equal to the assumption at a place among the pieces, which is assumed.
 func (d *derivation) assumed(i int, t api.Term) kernel.Theorem {
 	h := d.pieces[i].term
-	return d.same(h, t).of(derive.Assume(d.world, h))
+	return d.same(h, t).Of(derive.Assume(d.world, h))
 }
 
 // applied returns what a rule states behind its premises from one on, where the new subgoals are assumed.

@@ -107,7 +107,7 @@ func (m *maker) open(t api.Term) ([]piece, api.Term) {
 	var l []piece
 	for {
 		if x, ok := quantified(&t); ok {
-			free := m.free(x.Name, x.Type)
+			free := m.Free(x.Name, x.Type)
 			l = append(l, piece{true, x.Name, free})
 			t = term.Put(x.Kids[0], free)
 			continue
