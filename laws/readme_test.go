@@ -5,11 +5,16 @@ import (
 
 	"triforium/api"
 	"triforium/checker"
+	"triforium/classical"
+	logic "triforium/hol"
 	"triforium/kernel"
 	"triforium/mixfix"
 	"triforium/model"
 	"triforium/outer"
 	"triforium/proof"
+	"triforium/sat"
+	"triforium/simp"
+	"triforium/tableau"
 	"triforium/tactic"
 	"triforium/term"
 	"triforium/theory"
@@ -53,5 +58,29 @@ func TestReadmeNotations(t *testing.T) {
 	c, at, g := outer.Commands(`lemma a: "` + s + `" by this`)
 	if e != api.OK || f != api.OK || g != api.OK || at != 0 || s != "!! x. x == x ==> A" || len(c) != 2 || len(c[0].Parts) != 3 || c[0].Parts[2].Text != s || c[1].Parts[0].Text != "this" {
 		t.Error(e, f, g, s, c)
+	}
+}
+
+// TestReadmeProvers is the example of a proposition of HOL in README.md.
+func TestReadmeProvers(t *testing.T) {
+	a := api.Term{Op: api.Free, Name: "a", Type: logic.BoolType()}
+	x := logic.Implies(logic.And(a, logic.True()), a)
+	set, e := simp.Standard(logic.HOL())
+	same, f := simp.Rewrite(logic.HOL(), set, nil, x, 1, 50)
+	first, g := classical.Prove(logic.HOL(), nil, logic.Truth(x), 1)
+	second, h := tableau.Prove(logic.HOL(), x, 0, 50)
+	third, i := sat.Tautology(logic.HOL(), x, 10)
+	for _, e := range []api.Errno{e, f, g, h, i} {
+		if e != api.OK {
+			t.Fatal(e)
+		}
+	}
+	if !term.Equal(same.Prop(), must(term.Eq(x, logic.True()))) {
+		t.Error(textOf(same.Prop()))
+	}
+	for _, th := range []kernel.Theorem{first, second, third} {
+		if !term.Equal(th.Prop(), logic.Truth(x)) {
+			t.Error(textOf(th.Prop()))
+		}
 	}
 }

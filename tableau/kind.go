@@ -1,6 +1,8 @@
 package tableau
 
 import (
+	"slices"
+
 	"triforium/api"
 	"triforium/hol"
 	"triforium/term"
@@ -28,13 +30,18 @@ type shape struct {
 	args  []api.Term
 }
 
-// applied returns the name of a constant with a number of arguments, and these; an empty name for another term.
+// applied returns the constant that is applied to a number of arguments, and these, which share memory with the term; zero values for another term.
 func applied(t api.Term, n int) (api.Term, []api.Term) {
-	head, args := term.Spine(t)
-	if head.Op != api.Const || len(args) != n {
+	var args []api.Term
+	for t.Op == api.App && len(t.Kids) == 2 {
+		args = append(args, t.Kids[1])
+		t = t.Kids[0]
+	}
+	if t.Op != api.Const || len(args) != n {
 		return api.Term{}, nil
 	}
-	return head, args
+	slices.Reverse(args)
+	return t, args
 }
 
 // shapeOf takes a formula apart.
@@ -122,8 +129,7 @@ func quantified(k kind, rule string, f api.Term, negation bool) shape {
 
 // isNot reports whether a formula is the negation of another one.
 func isNot(t, p api.Term) bool {
-	c, l := applied(t, 1)
-	return c.Name == "Not" && term.Equal(l[0], p)
+	return t.Op == api.App && len(t.Kids) == 2 && t.Kids[0].Op == api.Const && t.Kids[0].Name == "Not" && term.Equal(t.Kids[1], p)
 }
 
 // isWrong reports whether a formula contradicts itself, and which rule shows that: what is refuted by itself, by trueI or by refl.

@@ -9,8 +9,12 @@ import (
 	"triforium/types"
 )
 
-// maxWork is how many nodes are tried for one answer.
-const maxWork = 60000
+// maxWork is how many nodes are tried for one answer by variables and constants, maxMore how many by all terms, or with more than a few instances on a branch.
+const (
+	maxWork   = 40000
+	maxMore   = 4000
+	fewGammas = 2
+)
 
 // exhausted is the panic with which a search ends that has tried too much.
 type exhausted struct{}
@@ -20,6 +24,9 @@ func search(l []api.Term, gammas, nodes int) (t Tree, ok bool) {
 	for _, any := range [2]bool{false, true} {
 		work := maxWork
 		for g := range gammas + 1 {
+			if any || g > fewGammas {
+				work = maxMore
+			}
 			if t, ok := searchWith(l, g, any, &work); ok && Size(t) <= nodes {
 				return t, true
 			}
