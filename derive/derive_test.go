@@ -60,3 +60,67 @@ func TestMust(t *testing.T) {
 	derive.Must(kernel.Assume(api.Theory{}, free("A")))
 	t.Error("not left")
 }
+
+func schematic(name string, index int) api.Term {
+	return api.Term{Op: api.Var, Name: name, Num: index, Type: types.Prop()}
+}
+
+// Instances raise all variables, also where there are more than the kernel takes at once.
+func TestInstance(t *testing.T) {
+	x, a := schematic("x", 0), free("A")
+	th := derive.Must(kernel.Assume(theory.Pure(), term.Imp(x, schematic("y", 2))))
+	r := derive.Instance(th, 3, api.Inst{Terms: []api.TermBind{{Name: "x", Index: 3, To: term.Imp(a, x)}}})
+	if want := term.Imp(term.Imp(a, x), schematic("y", 5)); !term.Equal(r.Prop(), want) || !term.Equal(r.Hyps()[0], want) {
+		t.Error(r.Prop())
+	}
+	if derive.Instance(th, 0, api.Inst{}) != th {
+		t.Error("another theorem")
+	}
+	for _, n := range []int{90, 150} {
+		prop, want := schematic("x", n), schematic("x", n+2)
+		i := api.Inst{}
+		for k := n - 1; k >= 0; k-- {
+			prop = term.Imp(schematic("x", k), prop)
+			to := schematic("x", k+2)
+			if k%2 == 0 {
+				to = schematic("x", k%2)
+				i.Terms = append(i.Terms, api.TermBind{Name: "x", Index: k + 2, To: to})
+			}
+			want = term.Imp(to, want)
+		}
+		r := derive.Instance(derive.Must(kernel.Assume(theory.Pure(), prop)), 2, i)
+		if !term.Equal(r.Prop(), want) {
+			t.Error(n)
+		}
+		if _, e := checker.Check(r.Theory(), r.Proof()); e != api.OK {
+			t.Error(n, e)
+		}
+	}
+}
+
+func TestGuards(t *testing.T) {
+	if x, e := derive.Guarded(func() (int, api.Errno) { return derive.Want(7, api.ErrForm), api.OK }); x != 0 || e != api.ErrForm {
+		t.Error(x, e)
+	}
+	if x, e := derive.Guarded(func() (int, api.Errno) { return 7, api.ErrType }); x != 0 || e != api.ErrType {
+		t.Error(x, e)
+	}
+	if x, e := derive.Guarded(func() (int, api.Errno) { return derive.Want(7, api.OK), api.OK }); x != 7 || e != api.OK {
+		t.Error(x, e)
+	}
+	if x, e := derive.Guarded(func() (int, api.Errno) { return derive.Limited(func() int { panic("limit") }), api.OK }); x != 0 || e != api.ErrLarge {
+		t.Error(x, e)
+	}
+	big := free("A")
+	for range 14 {
+		big = term.Imp(big, big)
+	}
+	if _, e := derive.Guarded(func() (api.Term, api.Errno) {
+		return derive.Applied(api.Inst{Terms: []api.TermBind{{Name: "x", To: big}}}, term.Imp(schematic("x", 0), schematic("x", 0))), api.OK
+	}); e != api.ErrCount {
+		t.Error(e)
+	}
+	if x := derive.Applied(api.Inst{Terms: []api.TermBind{{Name: "x", To: free("B")}}}, schematic("x", 0)); !term.Equal(x, free("B")) {
+		t.Error(x)
+	}
+}

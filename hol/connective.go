@@ -1,17 +1,24 @@
 package hol
 
 import (
+	"slices"
+
 	"triforium/api"
 	"triforium/term"
 	"triforium/types"
 )
 
-// Connective returns the name and the arguments of a term of a connective, True, False, Not, And, Or, Implies, or Equal of two terms of the type bool, with as many arguments as it takes; false for other terms.
+// Connective returns the name and the arguments, which share memory with it, of a term of a connective, True, False, Not, And, Or, Implies, or Equal of two terms of the type bool, with as many arguments as it takes; false for other terms.
 func Connective(t api.Term) (string, []api.Term, bool) {
-	head, args := term.Spine(t)
+	head, args := t, []api.Term(nil)
+	for head.Op == api.App && len(head.Kids) == 2 && len(args) <= 2 {
+		args = append(args, head.Kids[1])
+		head = head.Kids[0]
+	}
 	if head.Op != api.Const {
 		return "", nil, false
 	}
+	slices.Reverse(args)
 	var want api.Type
 	switch head.Name {
 	case "True", "False":
@@ -27,7 +34,7 @@ func Connective(t api.Term) (string, []api.Term, bool) {
 	return head.Name, args, len(from) == len(args) && types.Equal(head.Type, want)
 }
 
-// Atoms returns the parts of a term of the type bool that are no connectives, each once, in the order in which they stand first; at most one more than a number.
+// Atoms returns the parts of a term of the type bool that are no connectives, each once, in the order in which they stand first, and at most one more than a number; they share memory with it.
 func Atoms(t api.Term, most int) []api.Term {
 	var l []api.Term
 	var walk func(t api.Term)
@@ -54,27 +61,4 @@ func AtomIndex(l []api.Term, t api.Term) int {
 		}
 	}
 	return -1
-}
-
-// Value returns whether a term of connectives is true, if it is known whether its atoms are.
-func Value(t api.Term, of func(atom api.Term) bool) bool {
-	name, l, ok := Connective(t)
-	if !ok {
-		return of(t)
-	}
-	switch name {
-	case "True":
-		return true
-	case "Not":
-		return !Value(l[0], of)
-	case "And":
-		return Value(l[0], of) && Value(l[1], of)
-	case "Or":
-		return Value(l[0], of) || Value(l[1], of)
-	case "Implies":
-		return !Value(l[0], of) || Value(l[1], of)
-	case "Equal":
-		return Value(l[0], of) == Value(l[1], of)
-	}
-	return false
 }

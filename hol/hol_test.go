@@ -363,7 +363,4 @@ func TestConnectives(t *testing.T) {
 	if name, args, ok := hol.Connective(app(hol.And(p, q).Kids[0])); ok {
 		t.Error(name, len(args))
 	}
-	if !hol.Value(hol.Implies(p, hol.And(q, hol.True())), func(a api.Term) bool { return a.Name == "q" }) || hol.Value(eq(p, hol.Not(hol.Or(p, hol.False()))), func(api.Term) bool { return true }) {
-		t.Error("Value")
-	}
 }
