@@ -113,8 +113,7 @@ func (s searcher) close(b branch, from int) (closed, bool) {
 		return closed{}, false
 	}
 	b.gammas--
-	for t := range s.instances(b) {
-		part, _ := instance(b.shapes[t.At].parts[0], t.Term)
+	for t, part := range s.instances(b) {
 		if c, ok := s.put(b, t, []api.Term{part}); ok {
 			return c, true
 		}
@@ -207,9 +206,9 @@ func (s searcher) fork(b branch, t Tree, parts []api.Term) (closed, bool) {
 	return closed{t, used}, true
 }
 
-// instances yields nodes for the instances of formulas that hold for all, which are not yet on the branch.
-func (s searcher) instances(b branch) iter.Seq[Tree] {
-	return func(yield func(Tree) bool) {
+// instances yields nodes for the instances of formulas that hold for all, with these, if they are not yet on the branch.
+func (s searcher) instances(b branch) iter.Seq2[Tree, api.Term] {
+	return func(yield func(Tree, api.Term) bool) {
 	formulas:
 		for i, x := range b.shapes {
 			if x.kind != Gamma || b.done>>i&1 != 0 {
@@ -220,7 +219,7 @@ func (s searcher) instances(b branch) iter.Seq[Tree] {
 				if !ok || b.has(p) || !fits(b.forms, []api.Term{p}) {
 					continue
 				}
-				if !yield(Tree{Kind: Gamma, At: i, Term: by}) {
+				if !yield(Tree{Kind: Gamma, At: i, Term: by}, p) {
 					return
 				}
 			}
@@ -228,17 +227,14 @@ func (s searcher) instances(b branch) iter.Seq[Tree] {
 	}
 }
 
-// terms yields the terms of a type on a branch, each once: variables and constants, or all, and a new variable.
+// terms yields the terms of a type on a branch, each once: variables and constants, or all, and a new variable, at least if there are no others.
 func (s searcher) terms(b branch, typ api.Type) iter.Seq[api.Term] {
 	return func(yield func(api.Term) bool) {
 		var seen []api.Term
 		for _, f := range b.forms {
 			for n := range term.Nodes(&f) {
-				atom := n.Op == api.Free || n.Op == api.Const || n.Op == api.Var
-				if !atom && (!s.any || !term.Closed(*n)) || slices.ContainsFunc(seen, func(t api.Term) bool { return term.Equal(t, *n) }) {
-					continue
-				}
-				if u, e := term.TypeOf(*n); e != api.OK || !types.Equal(u, typ) {
+				u, ok := s.candidate(n)
+				if !ok || !types.Equal(u, typ) || slices.ContainsFunc(seen, func(t api.Term) bool { return term.Equal(t, *n) }) {
 					continue
 				}
 				seen = append(seen, *n)
@@ -247,8 +243,20 @@ func (s searcher) terms(b branch, typ api.Type) iter.Seq[api.Term] {
 				}
 			}
 		}
-		if s.any {
+		if s.any || len(seen) == 0 {
 			yield(api.Term{Op: api.Free, Name: term.Variant("x", names(b.forms)), Type: typ})
 		}
 	}
+}
+
+// candidate returns the type of a part of a formula that may stand for a variable; false for other parts.
+func (s searcher) candidate(n *api.Term) (api.Type, bool) {
+	if n.Op == api.Free || n.Op == api.Const || n.Op == api.Var {
+		return n.Type, true
+	}
+	if !s.any || !term.Closed(*n) {
+		return api.Type{}, false
+	}
+	u, e := term.TypeOf(*n)
+	return u, e == api.OK
 }

@@ -249,6 +249,11 @@ func TestProve(t *testing.T) {
 		}
 		checked(t, th)
 	}
+	// the variable of a Delta that stands in no formula
+	none := []api.Term{ex(x(), a), all(x(), hol.And(p(x()), hol.Not(p(x()))))}
+	if tree, e := tableau.Search(thy(), none, 1, tableau.MaxNodes); e != api.OK || tableau.Check(thy(), none, tree) != api.OK {
+		t.Error(e)
+	}
 	for i, x := range []api.Term{a, hol.Or(a, b), hol.Implies(all(v, ex(u, r(u, v))), ex(u, all(v, r(u, v)))), eq(con("c"), con("d"))} {
 		if th, e := tableau.Prove(thy(), x, 3, 500); e != api.ErrFail || th.Is() {
 			t.Error(i, e)
