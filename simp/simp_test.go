@@ -590,3 +590,32 @@ func TestGoalErrors(t *testing.T) {
 	}
 	checked(t, th)
 }
+
+// Equations at all types, in terms with schematic variables and type variables of the same names.
+func TestPolymorphic(t *testing.T) {
+	std := must(simp.Standard(askThy))
+	va := api.Type{Op: api.TVar, Name: "a"}
+	for i, typ := range []api.Type{va, {Op: api.TFree, Name: "b"}, types.Fun(va, nat()), {Op: api.TVar, Name: "a", Index: 7}} {
+		x, y := schem("x", 0, typ), schem("y", 3, typ)
+		p := schem("P", 0, boolean())
+		th, e := simp.Rewrite(askThy, std, nil, hol.And(p, equal(x, x)), 1, 50)
+		want(t, i, th, e, hol.And(p, equal(x, x)), p)
+		th, e = simp.Rewrite(askThy, std, nil, must(hol.If(equal(x, x), equal(x, y), p)), 1, 50)
+		want(t, i, th, e, must(hol.If(equal(x, x), equal(x, y), p)), equal(x, y))
+		sp, e := simp.Split(askThy, equal(must(hol.If(p, x, y)), y))
+		want(t, i, sp, e, equal(must(hol.If(p, x, y)), y), hol.And(hol.Implies(p, equal(x, y)), hol.Implies(hol.Not(p), equal(y, y))))
+		cv, e := conv.Run(askThy, std.Rules, conv.Expr{Kind: conv.Bottom, Kids: []conv.Expr{{Kind: conv.Rule, Num: 15}}}, hol.Not(equal(x, x)), 9)
+		want(t, i, cv, e, hol.Not(equal(x, x)), hol.Not(hol.True()))
+	}
+	// a function is the same as its eta expansion, where a left side is matched
+	f := free("h", types.Fun(nat(), nat()))
+	long := api.Term{Op: api.Abs, Name: "z", Type: nat(), Kids: []api.Term{{Op: api.App, Kids: []api.Term{f, {Op: api.Bound}}}}}
+	th, e := simp.Rewrite(askThy, std, nil, equal(f, long), 0, 50)
+	want(t, "eta", th, e, equal(f, long), hol.True())
+	set := simp.Set{Rules: []kernel.Theorem{stated(eq(f, free("k", types.Fun(nat(), nat()))))}}
+	th, e = simp.Rewrite(askThy, set, nil, long, 0, 50)
+	if e != api.OK || !term.Equal(term.Eta(th.Prop().Kids[1]), free("k", types.Fun(nat(), nat()))) {
+		t.Error(e)
+	}
+	checked(t, th)
+}
