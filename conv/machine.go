@@ -115,18 +115,36 @@ func (r *run) rewrite(number int, t api.Term) (equate.Equation, bool) {
 	})
 }
 
-// MayMatch reports whether a pattern may match a term, as far as their heads show it.
+// MayMatch reports whether a pattern may match a term, as far as the constants and variables show it that no instance and no normal form changes.
 func MayMatch(p, t *api.Term) bool {
-	a, b := head(p), head(t)
-	return a.Op == api.Var || a.Op == api.Abs || b.Op == api.Abs || a.Op == b.Op && a.Name == b.Name && a.Num == b.Num
+	if p.Op == api.Abs || t.Op == api.Abs {
+		return p.Op != t.Op || MayMatch(&p.Kids[0], &t.Kids[0])
+	}
+	a, n := head(p)
+	b, k := head(t)
+	if a.Op == api.Var || a.Op == api.Abs || b.Op == api.Abs {
+		return true
+	}
+	if n != k || a.Op != b.Op || a.Name != b.Name || a.Num != b.Num {
+		return false
+	}
+	for p.Op == api.App {
+		if !MayMatch(&p.Kids[1], &t.Kids[1]) {
+			return false
+		}
+		p, t = &p.Kids[0], &t.Kids[0]
+	}
+	return true
 }
 
-// head returns the head of a term, which shares memory with it.
-func head(t *api.Term) *api.Term {
+// head returns the head of a term, which shares memory with it, and how many arguments it has.
+func head(t *api.Term) (*api.Term, int) {
+	n := 0
 	for t.Op == api.App {
 		t = &t.Kids[0]
+		n++
 	}
-	return t
+	return t, n
 }
 
 // then returns the equation of two that are made one behind the other.

@@ -13,6 +13,7 @@ type Library struct {
 	consts map[string]api.Type
 	lines  map[string]line
 	rules  map[string]kernel.Theorem
+	raises map[string]api.Term
 }
 
 // line is a rule as it is written.
@@ -25,7 +26,7 @@ type line struct {
 
 // Load returns the library of a world whose theory has HOL, or Nat.
 func Load(w kernel.World) *Library {
-	l := Library{w, constants(), map[string]line{}, map[string]kernel.Theorem{}}
+	l := Library{w, constants(), map[string]line{}, map[string]kernel.Theorem{}, map[string]api.Term{}}
 	for _, x := range []struct {
 		text string
 		line
@@ -76,6 +77,16 @@ func (l *Library) rule(name string) kernel.Theorem {
 // prop returns the proposition of a rule.
 func (l *Library) prop(x line) api.Term {
 	return newNotation(x.prop, x.ofNat, l.consts).prop(tokens(x.prop))
+}
+
+// raised returns what a rule that there is states, with the index 1 for all variables.
+func (l *Library) raised(name string) api.Term {
+	t, ok := l.raises[name]
+	if !ok {
+		t = term.Raise(l.rule(name).Prop(), 1)
+		l.raises[name] = t
+	}
+	return t
 }
 
 // metaEquation returns the rule that terms are equal for HOL, if they are so for the kernel.

@@ -152,7 +152,7 @@ func (p *prover) apply(e *expr, goal api.Term) kernel.Theorem {
 	}
 	th := p.library.rule(e.head)
 	var m matching
-	whole := term.Raise(th.Prop(), 1)
+	whole := p.library.raised(e.head)
 	for _, v := range term.Vars(whole) {
 		for _, b := range e.binds {
 			if v.Name == b.name {
@@ -171,8 +171,9 @@ func (p *prover) apply(e *expr, goal api.Term) kernel.Theorem {
 	}
 	if i := m.inst(); len(i.Types)+len(i.Terms) > 0 {
 		th = derive.Must(kernel.Instantiate(i, th))
+		th = p.maker.Normal(th.Prop()).Of(th)
 	}
-	return p.eliminated(p.maker.Normal(th.Prop()).Of(th), proofs)
+	return p.eliminated(th, proofs)
 }
 
 // behind returns a proposition without some premises.
@@ -209,6 +210,9 @@ type matching struct{ found api.Inst }
 
 // instance returns what the variables make of a term of the rule, as far as they are found.
 func (m *matching) instance(t api.Term) api.Term {
+	if len(m.found.Types)+len(m.found.Terms) == 0 {
+		return t
+	}
 	r, _ := term.Norm(term.Apply(m.found, t), 1000)
 	return r
 }
