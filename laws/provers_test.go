@@ -153,3 +153,56 @@ func TestResultsAreNormal(t *testing.T) {
 		t.Error(normal)
 	}
 }
+
+// ifs returns how many Ifs a term has, and how many of its parts are equal to another one.
+func ifs(t, of api.Term) (all, equal int) {
+	for n := range term.Nodes(&t) {
+		if n.Op == api.Const && n.Name == "If" {
+			all++
+		}
+		if term.Equal(*n, of) {
+			equal++
+		}
+	}
+	return all, equal
+}
+
+// P21.6: each case has as many Ifs fewer as were taken, with those in the parts of them that are not there any more.
+func TestSplitsTakeIfs(t *testing.T) {
+	thy := logic.HOL()
+	taken := 0
+	for seed := range int64(150) {
+		x := provers{rand.New(rand.NewSource(seed))}.formula(4, true)
+		th, e := simp.Split(thy, x)
+		if e != api.OK {
+			continue
+		}
+		taken++
+		_, right, _ := term.IsEq(th.Prop())
+		_, cases := term.Spine(right)
+		q := cases[0].Kids[0].Kids[1]
+		var first api.Term
+		for n := range term.Nodes(&x) {
+			if _, l := term.Spine(*n); len(l) == 3 && n.Kids[0].Kids[0].Kids[0].Name == "If" && term.Closed(*n) {
+				first = *n
+				break
+			}
+		}
+		_, args := term.Spine(first)
+		total, k := ifs(x, first)
+		inFirst, _ := ifs(first, q)
+		for i, c := range cases {
+			left, _ := ifs(c.Kids[1], first)
+			kept, _ := ifs(args[1+i], first)
+			if !term.Equal(args[0], q) || left != total-k*(inFirst-kept) {
+				t.Fatal(seed, i, total, k, left, textOf(x))
+			}
+		}
+		if !term.Equal(cases[1].Kids[0].Kids[1], logic.Not(q)) {
+			t.Fatal(seed)
+		}
+	}
+	if taken < 20 {
+		t.Error(taken)
+	}
+}
