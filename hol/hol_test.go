@@ -79,7 +79,7 @@ func TestTheories(t *testing.T) {
 }
 
 // names are the names of axioms and derived rules in the order of the chapter.
-const names = `trueI falseE notI notE conjI conjunct1 conjunct2 disjI1 disjI2 disjE impI mp allI spec exI exE refl subst ext iffI excluded_middle the_eq if_true if_false eq_reflection
+const names = `protect_def trueI falseE notI notE conjI conjunct1 conjunct2 disjI1 disjI2 disjE impI mp allI spec exI exE refl subst ext iffI excluded_middle the_eq if_true if_false eq_reflection
 Suc_inject Suc_Zero nat_induct plus_Zero plus_Suc times_Zero times_Suc le_Zero le_Suc_Zero le_Suc less_Zero less_Zero_Suc less_Suc
 conjE impE allE iffD1 iffD2 classical ccontr sym trans meta_eq arg_cong fun_cong cong the_equality eq_True eq_False not_not not_conj not_disj not_imp imp_disj not_all not_ex and_True and_True2 and_False and_False2 or_True or_True2 or_False or_False2 imp_True imp_True2 imp_False imp_False2 not_True not_False eq_refl all_simp ex_simp if_True if_False conj_cong imp_cong if_cong if_split
 plus_Zero2 plus_Suc2 plus_commute plus_assoc plus_left_commute plus_cancel Suc_eq Suc_not_Zero Zero_not_Suc le_refl le_trans le_antisym le_total le_plus plus_le_mono plus_le_cancel less_le not_le not_less le_diff nat_cases`
@@ -88,7 +88,7 @@ plus_Zero2 plus_Suc2 plus_commute plus_assoc plus_left_commute plus_cancel Suc_e
 func TestRules(t *testing.T) {
 	groups := strings.Split(names, "\n")
 	var all []hol.Named
-	for i, l := range [][]hol.Named{axioms(hol.HOL(), 1), axioms(hol.Nat(), 26), hol.Rules(), hol.NatRules()} {
+	for i, l := range [][]hol.Named{axioms(hol.HOL(), 0), axioms(hol.Nat(), 26), hol.Rules(), hol.NatRules()} {
 		want := strings.Fields(groups[i])
 		for k, x := range l {
 			if k >= len(want) || want[k] != x.Name {
@@ -117,7 +117,7 @@ func TestRules(t *testing.T) {
 	if hol.Rules()[18].Name != "not_disj" {
 		t.Error("the nineteenth rule")
 	}
-	for _, name := range []string{"", "conjE ", "protect_def", "both", "not_exE", "HOL"} {
+	for _, name := range []string{"", "conjE ", "protect", "both", "not_exE", "HOL"} {
 		if th, e := hol.Rule(name); e != api.ErrMissing || th.Is() {
 			t.Error(name, e)
 		}
@@ -343,6 +343,9 @@ func TestLibrary(t *testing.T) {
 	th, e := l.Rule("conj_cong")
 	if e != api.OK || th.Theory().Name != "Nat" {
 		t.Error(e)
+	}
+	if th, e := l.Rule("protect_def"); e != api.OK || th.Theory().Name != "Nat" {
+		t.Error("Pure's axiom", e)
 	}
 	l = hol.Load(must(kernel.Open(theory.Pure())))
 	if _, e := l.Rule("conj_cong"); e == api.OK {

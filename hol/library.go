@@ -5,6 +5,7 @@ import (
 	"triforium/derive"
 	"triforium/kernel"
 	"triforium/term"
+	"triforium/theory"
 )
 
 // Library has the axioms and derived rules of HOL and Nat as theorems of one world, each one proved when it is first asked for.
@@ -27,6 +28,10 @@ type line struct {
 // Load returns the library of a world whose theory has HOL, or Nat.
 func Load(w kernel.World) *Library {
 	l := Library{w, constants(), map[string]line{}, map[string]kernel.Theorem{}, map[string]api.Term{}}
+	// HOL has Pure's axioms, too, which no line states.
+	for _, a := range theory.Pure().Axioms {
+		l.lines[a.Name] = line{axiom: true}
+	}
 	for _, x := range []struct {
 		text string
 		line
